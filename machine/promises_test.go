@@ -14,7 +14,7 @@ import (
 	"trestle/runes"
 )
 
-// What was made anew costs, whatever fuel and cells there are: at each number of steps, and of cells, up to what the program needs, it ends as the book does.
+// Whatever fuel and cells there are: with each number of steps, and of cells, up to what the program needs, it ends as the book does.
 func TestEachFuelAndCell_P3(t *testing.T) {
 	programs(3, 20, func(src string, r *rand.Rand) {
 		b := try(t, src, 400, 400).b
@@ -27,7 +27,7 @@ func TestEachFuelAndCell_P3(t *testing.T) {
 	})
 }
 
-// more fuel is the same run, with as much more of it left; more cells are the same run.
+// More fuel is the same run, with as much more of it left; more cells are the same run.
 func TestMore_P18_2(t *testing.T) {
 	same, refused := 0, 0
 	programs(4, 1200, func(src string, r *rand.Rand) {
